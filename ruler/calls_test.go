@@ -32,12 +32,15 @@ func callAll(text string, other string, number int) answers {
 // strangeTexts are of all lengths and kinds: of chance bytes (by a rule, the same each time), sources, wrong ones, and huge ones.
 func strangeTexts() []string {
 	list := []string{
-		"", "a", "?", "=", "\x00", "\xff", "é", "RU", "RU\x01\x00\x00\x00", "-0", "1,2", "a=pt();", heavyChain, weighed,
+		"", "a", "?", "=", "\x00", "\xff", "é", "RU", "RU\x01\x00\x00\x00", square, everyStep, outs(2000), outs(2001), behindPower(8000), makeCode(5, 2, makeStep(in, 0, 0, 0), makeStep(out, 0, 0, 0)), "-0", "1,2", "a=pt();", heavyChain, weighed,
 		strings.Repeat("a=pt();", 16), strings.Repeat("?", 300), strings.Repeat("(", 301), strings.Repeat("a,", 8003),
 		strings.Repeat("a", 1<<20), strings.Repeat("\x00", 1<<20), strings.Repeat("a=pt();", 1<<18), strings.Repeat("\xff", 8006),
 	}
 	for _, c := range wrongSources {
 		list = append(list, c.source)
+	}
+	for i := 0; i < len(everyStep); i += 3 {
+		list = append(list, everyStep[:i], everyStep[:i]+"\xff"+everyStep[i+1:])
 	}
 	const bytes = "aabclz=?(),;;ptmidonline\x00\xffRU19-"
 	state := uint32(1)
@@ -75,6 +78,12 @@ func TestCallsEndAtAllTexts(t *testing.T) {
 		if a.check == ruler.OK && a.checkAt != 0 {
 			t.Errorf("P3: Check of %.80q tells OK and %d", text, a.checkAt)
 		}
+		if a.verify == ruler.OK && a.verifyAt != 0 {
+			t.Errorf("P5: Verify of %.80q tells OK and %d", text, a.verifyAt)
+		}
+		if a.shrinkE != a.verify {
+			t.Errorf("P7: of %.80q Verify tells %d, Shrink %d", text, a.verify, a.shrinkE)
+		}
 	}
 }
 
@@ -87,6 +96,16 @@ func TestTooLongGoesAheadOfAllElse(t *testing.T) {
 			wantWeight(t, text, 0, 0, ruler.ErrLong)
 			wantWeight(t, text, -1, 0, ruler.ErrLong)
 		}
+		for _, text := range []string{long, long[:8007], outs(2000) + long} {
+			wantVerify(t, text, ruler.ErrLong, 0)
+			wantShrink(t, text, "", ruler.ErrLong)
+			wantExec(t, text, "", "", ruler.ErrLong)
+			wantExec(t, text, "x", "", ruler.ErrLong)
+		}
+		for _, text := range []string{long, long[:141], long[:142]} {
+			wantExec(t, square, text, "", ruler.ErrLong)
+			wantExec(t, "x", text, "", ruler.ErrLong)
+		}
 	}
 }
 
@@ -97,6 +116,10 @@ func TestTooLongIsFoundByLength(t *testing.T) {
 		ruler.Check(long)
 		ruler.Needs(long)
 		ruler.Weight(long, 0)
+		ruler.Verify(long)
+		ruler.Shrink(long)
+		ruler.Exec(long, "")
+		ruler.Exec(square, long)
 	})
 	if allocated != 0 {
 		t.Errorf("P1: a text that is too long is worked on: %v allocations", allocated)
@@ -120,6 +143,9 @@ func TestNothingIsKeptBetweenCalls(t *testing.T) {
 	wantCheck(t, "a=pt();l=line(a,a);", ruler.OK, 0)
 	wantCheck(t, "?on(a,l);", ruler.ErrName, 0)
 	wantCheck(t, "a=pt();l=line(a,a);", ruler.OK, 0)
+	// Nor is a register that one code sets.
+	wantVerify(t, makeCode(1, 0, makeStep(con, 0, 1, 0)), ruler.OK, 0)
+	wantVerify(t, makeCode(1, 0, makeStep(out, 0, 0, 0)), ruler.ErrCode, 1)
 }
 
 func TestErrorsAreConstants(t *testing.T) {

@@ -52,13 +52,36 @@ func Weight(source string, statement int) (int, Errno) {
 }
 
 // Verify tells whether a text is a right code (P5).
-func Verify(code string) (Errno, int) { return OK, 0 }
+func Verify(code string) (Errno, int) {
+	_, fault, place := decode(code)
+	return fault, place
+}
 
 // Exec runs a code (P6).
-func Exec(code string, inputs string) (string, Errno) { return "", OK }
+func Exec(code string, inputs string) (string, Errno) {
+	if len(code) > maxCode || len(inputs) > maxInput {
+		return "", ErrLong
+	}
+	p, fault, _ := decode(code)
+	if fault != OK {
+		return "", fault
+	}
+	numbers, ok := parseInputs(inputs)
+	if !ok || len(numbers) != int(p.ins) {
+		return "", ErrInput
+	}
+	return execute(p, numbers)
+}
 
 // Shrink leaves out the steps that are not needed (P7).
-func Shrink(code string) (string, Errno) { return "", OK }
+func Shrink(code string) (string, Errno) {
+	p, fault, _ := decode(code)
+	if fault != OK {
+		return "", fault
+	}
+	p.steps = keepNeeded(p.steps)
+	return joinCode(p), OK
+}
 
 // Run tells the report of a source (P8).
 func Run(source string, inputs string) (string, Errno) { return "", OK }
