@@ -81,6 +81,9 @@ func TestCallsEndAtAllTexts(t *testing.T) {
 		if a.verify == ruler.OK && a.verifyAt != 0 {
 			t.Errorf("P5: Verify of %.80q tells OK and %d", text, a.verifyAt)
 		}
+		if a.compileE != a.check || (a.check != ruler.OK && a.runE != a.check && a.runE != ruler.ErrLong) {
+			t.Errorf("P8, P9: of %.80q Check tells %d, Run %d, Compile %d", text, a.check, a.runE, a.compileE)
+		}
 		if a.shrinkE != a.verify {
 			t.Errorf("P7: of %.80q Verify tells %d, Shrink %d", text, a.verify, a.shrinkE)
 		}
@@ -95,6 +98,9 @@ func TestTooLongGoesAheadOfAllElse(t *testing.T) {
 			wantNeeds(t, text, 0, ruler.ErrLong)
 			wantWeight(t, text, 0, 0, ruler.ErrLong)
 			wantWeight(t, text, -1, 0, ruler.ErrLong)
+			wantRun(t, text, "", "", ruler.ErrLong)
+			wantRun(t, text, "x", "", ruler.ErrLong)
+			wantCompile(t, text, ruler.ErrLong)
 		}
 		for _, text := range []string{long, long[:8007], outs(2000) + long} {
 			wantVerify(t, text, ruler.ErrLong, 0)
@@ -105,6 +111,8 @@ func TestTooLongGoesAheadOfAllElse(t *testing.T) {
 		for _, text := range []string{long, long[:141], long[:142]} {
 			wantExec(t, square, text, "", ruler.ErrLong)
 			wantExec(t, "x", text, "", ruler.ErrLong)
+			wantRun(t, "a=pt();", text, "", ruler.ErrLong)
+			wantRun(t, "x", text, "", ruler.ErrLong)
 		}
 	}
 }
@@ -120,6 +128,9 @@ func TestTooLongIsFoundByLength(t *testing.T) {
 		ruler.Shrink(long)
 		ruler.Exec(long, "")
 		ruler.Exec(square, long)
+		ruler.Run(long, "")
+		ruler.Run("a=pt();", long)
+		ruler.Compile(long)
 	})
 	if allocated != 0 {
 		t.Errorf("P1: a text that is too long is worked on: %v allocations", allocated)
@@ -143,6 +154,12 @@ func TestNothingIsKeptBetweenCalls(t *testing.T) {
 	wantCheck(t, "a=pt();l=line(a,a);", ruler.OK, 0)
 	wantCheck(t, "?on(a,l);", ruler.ErrName, 0)
 	wantCheck(t, "a=pt();l=line(a,a);", ruler.OK, 0)
+	wantRun(t, "?on(a,l);", "", "", ruler.ErrName)
+	// Nor are inputs, or what has been made of them.
+	wantRun(t, "a=pt();b=pt();?same(a,b);", "1,2,1,2", "1", ruler.OK)
+	wantRun(t, "a=pt();b=pt();?same(a,b);", "1,2,1,3", "0", ruler.OK)
+	wantRun(t, "a=pt();b=pt();?same(a,b);", "1,2", "", ruler.ErrInput)
+	wantRun(t, "a=pt();b=pt();?same(a,b);", "1,2,1,2", "1", ruler.OK)
 	// Nor is a register that one code sets.
 	wantVerify(t, makeCode(1, 0, makeStep(con, 0, 1, 0)), ruler.OK, 0)
 	wantVerify(t, makeCode(1, 0, makeStep(out, 0, 0, 0)), ruler.ErrCode, 1)

@@ -82,3 +82,12 @@ func execute(p program, inputs []int) (string, Errno) {
 	}
 	return string(m.report), OK
 }
+
+// start is what running a code and running a source have in common, once both are right.
+func start(p program, inputs string) (string, Errno) {
+	numbers, ok := parseInputs(inputs)
+	if !ok || len(numbers) != int(p.ins) {
+		return "", ErrInput
+	}
+	return execute(p, numbers)
+}

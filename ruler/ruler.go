@@ -66,11 +66,7 @@ func Exec(code string, inputs string) (string, Errno) {
 	if fault != OK {
 		return "", fault
 	}
-	numbers, ok := parseInputs(inputs)
-	if !ok || len(numbers) != int(p.ins) {
-		return "", ErrInput
-	}
-	return execute(p, numbers)
+	return start(p, inputs)
 }
 
 // Shrink leaves out the steps that are not needed (P7).
@@ -84,7 +80,24 @@ func Shrink(code string) (string, Errno) {
 }
 
 // Run tells the report of a source (P8).
-func Run(source string, inputs string) (string, Errno) { return "", OK }
+func Run(source string, inputs string) (string, Errno) {
+	if len(source) > maxSource || len(inputs) > maxInput {
+		return "", ErrLong
+	}
+	list, fault, _ := understand(source)
+	if fault != OK {
+		return "", fault
+	}
+	p := translate(list)
+	return start(p, inputs)
+}
 
 // Compile makes a code of a source (P9).
-func Compile(source string) (string, Errno) { return "", OK }
+func Compile(source string) (string, Errno) {
+	list, fault, _ := understand(source)
+	if fault != OK {
+		return "", fault
+	}
+	p := translate(list)
+	return joinCode(p), OK
+}
