@@ -15,6 +15,7 @@ const (
 
 // maker writes the steps of a code. A result never goes over another of the same statement:
 // the greatest statement, a centre, takes 62 spare registers, and 128 less 48 are there.
+// It takes 66 steps, so 16 statements stay below 2000.
 type maker struct {
 	steps  []step
 	spare  byte // the next spare register

@@ -2,8 +2,12 @@ package ruler
 
 // triple is the registers of a point or a line. A point lies at x/w, y/w, and w is not 0;
 // a line has the points X, Y, W for which x X + y Y + w W is 0, and its x and y are not both 0.
-// So nothing is ever divided, and the numbers of a thing have no more digits than its weight
-// leads one to think: none is above 297 to the power of the weight, divided by 3.
+// So nothing is ever divided.
+//
+// No number of a thing is above 297 to the power of its weight, divided by 3. Those of a given point are at most 99.
+// If a, b, c (points) and l (a line) stand for the bounds of the arguments, the numbers of mid, line, par, perp and meet
+// are at most twice the product of two bounds, of foot 4 a l l, of mirror 12 a a l l, of centre 64 a a a a b b c c:
+// no bound stands there more often than the weight counts it, and the thirds in the bounds more than make up for the factor.
 type triple struct {
 	x, y, w byte
 }
